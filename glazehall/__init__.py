@@ -1,0 +1,1 @@
+"""Glazehall: glazes laid one over the other, as exact rules."""
