@@ -1,0 +1,112 @@
+"""What several tests need: values and rules as Python's own Fractions, some of each, and what telling them asks for.
+
+The sums here are written down once more from the document, over Python's own Fraction, and draw on nothing of the
+program: so a fault of the program doesn't hide in its own test.
+"""
+
+from fractions import Fraction
+from math import gcd
+
+FORTY = 10 ** 40 - 1
+TINY = Fraction(1, FORTY)
+GROUNDS = ((0, 0), (0, 1), (1, 1))
+WORDS = ("over", "under", "screen", "times", "atop")
+
+
+def pair(number):
+    exact = Fraction(number)
+    return (exact.numerator, exact.denominator)
+
+
+def pairs(numbers):
+    return tuple(pair(number) for number in numbers)
+
+
+def exact(told):
+    return tuple(Fraction(top, bottom) for top, bottom in told)
+
+
+def check_fractions(case, told, many):
+    """That something told is a tuple of so many fractions, each in lowest terms."""
+    case.assertIs(type(told), tuple)
+    case.assertEqual(len(told), many)
+    for part in told:
+        case.assertIs(type(part), tuple)
+        case.assertEqual([type(number) for number in part], [int, int])
+        case.assertGreaterEqual(part[1], 1)
+        case.assertEqual(gcd(part[0], part[1]), 1)
+
+
+def check_told(case, told, wanted):
+    check_fractions(case, told, len(wanted))
+    case.assertEqual(told, pairs(wanted))
+
+
+def check_refused(case, refusal, deed, *things):
+    with case.assertRaises(refusal) as taken:
+        deed(*things)
+    case.assertIs(type(taken.exception), refusal)
+
+
+def lay(rule, value):
+    g, p, a, q, b = rule
+    c, t = value
+    return (g * c + p * t + a, q * t + b)
+
+
+def mix(old, new, share):
+    return tuple((1 - share) * one + share * other for one, other in zip(old, new))
+
+
+def is_shade(value):
+    return 0 <= value[0] <= value[1] <= 1
+
+
+def manner_rule(word, s, u):
+    return {
+        "over": (1 - u, 0, s, 1 - u, u),
+        "under": (1, -s, s, 1 - u, u),
+        "screen": (1 - s, 0, s, 1 - u, u),
+        "times": (1 - u + s, -s, s, 1 - u, u),
+        "atop": (1 - u, s, 0, 1, 0),
+    }[word]
+
+
+def sources():
+    """Shades as Fractions: the edges, all eighths, and some of other bottoms, of 40 figures too."""
+    eighths = [(Fraction(s, 8), Fraction(u, 8)) for u in range(9) for s in range(u + 1)]
+    others = [
+        (Fraction(1, 3), Fraction(1, 2)), (Fraction(2, 7), Fraction(2, 7)), (Fraction(5, 256), Fraction(251, 256)),
+        (TINY, TINY), (0, TINY), (TINY, 1), (1 - TINY, 1), (1 - TINY, 1 - TINY),
+        (Fraction(10 ** 39, FORTY), Fraction(7 * 10 ** 39 + 3, FORTY)),
+    ]
+    return eighths + others
+
+
+def values():
+    """Values as Fractions: the grounds, shades, and values that are no shades."""
+    shades = [(Fraction(1, 3), Fraction(1, 2)), (Fraction(1, 16), Fraction(15, 16)), (TINY, 1 - TINY)]
+    others = [
+        (1, 0), (-1, 0), (0, -1), (Fraction(-5, 3), Fraction(7, 2)), (Fraction(9, 4), Fraction(-1, 6)),
+        (FORTY, -FORTY), (Fraction(-FORTY, 10 ** 39 + 7), Fraction(3 ** 83, 2 ** 132)),
+    ]
+    return list(GROUNDS) + shades + others
+
+
+def rules():
+    """Rules as five Fractions: plain ones, ones that stay and ones that don't, negative ones, ones of 40 figures."""
+    half = Fraction(1, 2)
+    third = Fraction(1, 3)
+    return [
+        (1, 0, 0, 1, 0), (0, 0, 0, 0, 0), (0, 0, 1, 0, 1), (2, 3, 5, 7, 11), (-2, 3, -5, 7, -11),
+        (0, 1, 0, 1, 0), (1, 1, 1, 1, 1), (1, -1, 1, 0, 1), (half, 0, third, half, half), (-half, third, half, 1, 0),
+        (Fraction(3, 4), Fraction(-1, 4), Fraction(1, 4), half, half), (Fraction(5, 16), Fraction(11, 16), 0, 1, 0),
+        (1 - third, third, 0, 1, 0), (FORTY, -FORTY, FORTY - 1, 1 - FORTY, 10 ** 39),
+        (TINY, 1 - TINY, -TINY, 1 + TINY, TINY - 1),
+        (Fraction(FORTY, 10 ** 39 + 7), Fraction(-3 ** 83, 2 ** 132), TINY, Fraction(2 ** 132, 3 ** 83), Fraction(-7, 9)),
+    ]
+
+
+def shares():
+    """Fractions to mix by: nought, one, between, and beyond."""
+    return [0, 1, Fraction(1, 2), Fraction(1, 3), Fraction(15, 16), TINY, 1 - TINY, -1, 2, Fraction(-7, 5), FORTY]
