@@ -110,3 +110,54 @@ def rules():
 def shares():
     """Fractions to mix by: nought, one, between, and beyond."""
     return [0, 1, Fraction(1, 2), Fraction(1, 3), Fraction(15, 16), TINY, 1 - TINY, -1, 2, Fraction(-7, 5), FORTY]
+
+
+def rule_by(tell):
+    """The only rule that tells, of the three grounds, what the function tells of them."""
+    nothing, black, white = [tell(ground) for ground in GROUNDS]
+    return (white[0] - black[0], black[0] - nothing[0], nothing[0], black[1] - nothing[1], nothing[1])
+
+
+def plain_plan(plan, value):
+    """What one plan tells of a value, both over Fractions, as points 18 to 20 say it."""
+    if plan[0] == "paint":
+        m = Fraction(*plan[2])
+        s, u = exact(plan[3])
+        return lay(manner_rule(plan[1], m * s, m * u), value)
+    m = Fraction(*plan[3])
+    if plan[0] == "adjust":
+        return mix(value, lay((Fraction(plan[1], 16), Fraction(plan[2], 16), 0, 1, 0), value), m)
+    if plan[2]:
+        return mix(value, plain_row(plan[4], value), m)
+    s, u = plain_row(plan[4], (0, 0))
+    return lay(manner_rule(plan[1], m * s, m * u), value)
+
+
+def plain_row(plans, value):
+    for plan in plans:
+        value = plain_plan(plan, value)
+    return value
+
+
+def plain_rule(plans):
+    return rule_by(lambda ground: plain_row(plans, ground))
+
+
+def some_share(chance):
+    return pair(chance.choice((0, 1, Fraction(chance.randrange(257), 256), Fraction(chance.randrange(257), 256))))
+
+
+def some_shade(chance):
+    thickness = chance.randrange(17)
+    return pairs((Fraction(chance.randrange(thickness + 1), 16), Fraction(thickness, 16)))
+
+
+def some_plan(chance, depth):
+    kind = chance.choice(("paint", "paint", "adjust", "group", "group") if depth else ("paint", "paint", "adjust"))
+    if kind == "paint":
+        return ("paint", chance.choice(WORDS), some_share(chance), some_shade(chance))
+    if kind == "adjust":
+        gain = chance.randrange(17)
+        return ("adjust", gain, chance.randrange(17 - gain), some_share(chance))
+    plans = tuple(some_plan(chance, depth - 1) for number in range(chance.randrange(4)))
+    return ("group", chance.choice(WORDS), chance.choice((True, False)), some_share(chance), plans)

@@ -653,7 +653,10 @@ class PackageTest(unittest.TestCase):
         self.assertEqual(faults(texts_of_the_package()), [])
 
     def test_every_file_is_looked_at(self):
-        for name in ("__init__", "errors", "fractions", "shades", "wholes", "rules", "manners", "tiles", "plans"):
+        for name in (
+            "__init__", "errors", "fractions", "shades", "wholes", "rules", "manners", "tiles", "plans", "keeps",
+            "strokes", "moves", "ones",
+        ):
             self.assertIn("glazehall/" + name + ".py", texts_of_the_package())
 
 

@@ -10,57 +10,14 @@ from glazehall.manners import Over, adjusted, manner_of, weakened
 from glazehall.plans import rule_of, rule_of_all, value_of
 from glazehall.rules import IDENTITY, behind, grounds, laid, mixed, stays
 from glazehall.shades import CLEAR, shade
-from helpers import FORTY, GROUNDS, TINY, WORDS, check_refused, check_told, exact, lay, manner_rule, mix, pair, pairs
-from helpers import sources, values
+from helpers import FORTY, TINY, WORDS, check_refused, check_told, manner_rule, pair, pairs, plain_row, plain_rule
+from helpers import some_plan, sources, values
 
 HALF = Fraction(1, 2)
 SHARES = (0, 1, HALF, Fraction(1, 3), Fraction(255, 256), TINY, 1 - TINY)
 PAINT = ("paint", "over", (1, 1), shade(4, 8))
 LIGHT = ("paint", "screen", (1, 2), shade(6, 10))
 SHIFT = ("adjust", 12, 3, (1, 1))
-
-
-def plain_plan(plan, value):
-    """What one plan tells of a value, both over Fractions, as points 18 to 20 say it."""
-    if plan[0] == "paint":
-        m = Fraction(*plan[2])
-        s, u = exact(plan[3])
-        return lay(manner_rule(plan[1], m * s, m * u), value)
-    m = Fraction(*plan[3])
-    if plan[0] == "adjust":
-        return mix(value, lay((Fraction(plan[1], 16), Fraction(plan[2], 16), 0, 1, 0), value), m)
-    if plan[2]:
-        return mix(value, plain_row(plan[4], value), m)
-    s, u = plain_row(plan[4], (0, 0))
-    return lay(manner_rule(plan[1], m * s, m * u), value)
-
-
-def plain_row(plans, value):
-    for plan in plans:
-        value = plain_plan(plan, value)
-    return value
-
-
-def plain_rule(plans):
-    """The only rule that tells what the plans, laid plainly, tell of the three grounds."""
-    nothing, black, white = [plain_row(plans, ground) for ground in GROUNDS]
-    return (white[0] - black[0], black[0] - nothing[0], nothing[0], black[1] - nothing[1], nothing[1])
-
-
-def some_share(chance):
-    return pair(chance.choice((0, 1, Fraction(chance.randrange(257), 256), Fraction(chance.randrange(257), 256))))
-
-
-def some_plan(chance, depth):
-    kind = chance.choice(("paint", "paint", "adjust", "group", "group") if depth else ("paint", "paint", "adjust"))
-    if kind == "paint":
-        thickness = chance.randrange(17)
-        return ("paint", chance.choice(WORDS), some_share(chance), shade(chance.randrange(thickness + 1), thickness))
-    if kind == "adjust":
-        gain = chance.randrange(17)
-        return ("adjust", gain, chance.randrange(17 - gain), some_share(chance))
-    plans = tuple(some_plan(chance, depth - 1) for number in range(chance.randrange(4)))
-    return ("group", chance.choice(WORDS), chance.choice((True, False)), some_share(chance), plans)
 
 
 def some_rows():
