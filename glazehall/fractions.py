@@ -8,6 +8,10 @@ ONE = (1, 1)
 
 
 def greatest_divisor(one, other):
+    # Most bottoms are powers of two. What such a one and a number have in common is the lowest bit of both.
+    if other > 0 and other & (other - 1) == 0:
+        both = one | other
+        return both & -both
     while other != 0:
         rest = one % other
         one = other

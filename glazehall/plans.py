@@ -10,8 +10,8 @@ def rule_of_source(word, m, source):
     return manner_of(word).rule(weakened(source, m))
 
 
-def rule_of_group(word, through, m, plans):
-    whole = rule_of_all(plans)
+# Of a group, by the rule of its row.
+def rule_of_whole(word, through, m, whole):
     if through:
         return mixed(whole, m)
     return rule_of_source(word, m, laid(whole, CLEAR))
@@ -22,7 +22,7 @@ def rule_of(plan):
         return rule_of_source(plan[1], plan[2], plan[3])
     if plan[0] == "adjust":
         return mixed(adjusted(plan[1], plan[2]), plan[3])
-    return rule_of_group(plan[1], plan[2], plan[3], plan[4])
+    return rule_of_whole(plan[1], plan[2], plan[3], rule_of_all(plan[4]))
 
 
 def rule_of_all(plans):

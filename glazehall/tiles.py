@@ -37,6 +37,10 @@ class Store:
         self.refuse_unkept(key)
         return copied(self.rows[key])
 
+    def thing(self, key, place):
+        self.refuse_unkept(key)
+        return copied(self.rows[key][place])
+
     def share(self, key):
         self.refuse_unkept(key)
         self.holders[key] = self.holders[key] + 1

@@ -64,12 +64,12 @@ def is_shade(value):
 
 def manner_rule(word, s, u):
     return {
-        "over": (1 - u, 0, s, 1 - u, u),
-        "under": (1, -s, s, 1 - u, u),
-        "screen": (1 - s, 0, s, 1 - u, u),
-        "times": (1 - u + s, -s, s, 1 - u, u),
-        "atop": (1 - u, s, 0, 1, 0),
-    }[word]
+        "over": lambda: (1 - u, 0, s, 1 - u, u),
+        "under": lambda: (1, -s, s, 1 - u, u),
+        "screen": lambda: (1 - s, 0, s, 1 - u, u),
+        "times": lambda: (1 - u + s, -s, s, 1 - u, u),
+        "atop": lambda: (1 - u, s, 0, 1, 0),
+    }[word]()
 
 
 def sources():
@@ -161,3 +161,50 @@ def some_plan(chance, depth):
         return ("adjust", gain, chance.randrange(17 - gain), some_share(chance))
     plans = tuple(some_plan(chance, depth - 1) for number in range(chance.randrange(4)))
     return ("group", chance.choice(WORDS), chance.choice((True, False)), some_share(chance), plans)
+
+
+def sign(number):
+    return (number > 0) - (number < 0)
+
+
+def plain_way(corners):
+    """By each step's number: so far across, and so far down, as the way to the next corner has."""
+    cells = [corners[0]]
+    for (x, y), (far, low) in zip(corners, corners[1:]):
+        across, down = far - x, low - y
+        for step in range(1, max(abs(across), abs(down)) + 1):
+            cells.append((x + sign(across) * min(step, abs(across)), y + sign(down) * min(step, abs(down))))
+    return cells
+
+
+def plain_dabs(cells, every, carry):
+    """Cell by cell, with a count that goes round."""
+    found = []
+    for cell in cells:
+        if carry == 0:
+            found.append(cell)
+        carry = 0 if carry == every - 1 else carry + 1
+    return (found, carry)
+
+
+def inside(cell, stretch):
+    x, y, wide, high = stretch
+    return x <= cell[0] <= x + wide - 1 and y <= cell[1] <= y + high - 1
+
+
+def plain_moved(cells, size, stretch, across, down):
+    """Cell by cell of the picture: what it has behind the move, asked of the cell that comes to it, if one does."""
+    whole = (0, 0) + size
+    found = {}
+    for y in range(size[1]):
+        for x in range(size[0]):
+            ahead = (x - across, y - down)
+            if inside(ahead, stretch) and inside(ahead, whole):
+                comes = ahead
+            elif inside((x, y), stretch):
+                continue
+            else:
+                comes = (x, y)
+            if comes in cells:
+                found[(x, y)] = cells[comes]
+    return found

@@ -655,7 +655,7 @@ class PackageTest(unittest.TestCase):
     def test_every_file_is_looked_at(self):
         for name in (
             "__init__", "errors", "fractions", "shades", "wholes", "rules", "manners", "tiles", "plans", "keeps",
-            "strokes", "moves", "ones",
+            "strokes", "moves", "ones", "layers", "rows", "hall", "bundles",
         ):
             self.assertIn("glazehall/" + name + ".py", texts_of_the_package())
 

@@ -5,7 +5,7 @@ from fractions import Fraction
 from math import gcd
 
 from glazehall.errors import NoFraction
-from glazehall.fractions import less, made, minus, plus, times
+from glazehall.fractions import greatest_divisor, less, made, minus, plus, times
 
 FORTY = 10 ** 40 - 1
 GREAT = (
@@ -80,6 +80,20 @@ class MadeTest(FractionsCase):
     def test_forty_figures_with_a_great_common_factor(self):
         factor = 10 ** 19 + 51
         self.assertEqual(made(factor * (10 ** 20 + 39), -factor * 10 ** 20), (-(10 ** 20 + 39), 10 ** 20))
+
+    def test_powers_of_two_and_numbers_beside_them(self):
+        for height in (0, 1, 2, 4, 8, 63, 64, 65, 132):
+            for bottom in (2 ** height - 1, 2 ** height, 2 ** height + 1, 3 * 2 ** height):
+                for top in (0, 1, 2, 3, 6, 96, 2 ** 64, 3 * 2 ** 63, 2 ** 131 - 2 ** 60, 5 ** 40 * 2 ** 40) + GREAT:
+                    for sign in (1, -1):
+                        if bottom != 0:
+                            self.check(made(sign * top, bottom), Fraction(sign * top, bottom))
+                            self.check(made(top, sign * bottom), Fraction(top, sign * bottom))
+
+    def test_the_greatest_divisor(self):
+        for one in range(70):
+            for other in range(70):
+                self.assertEqual(greatest_divisor(one, other), gcd(one, other))
 
     def test_more_than_forty_figures(self):
         self.assertEqual(made(6 * 10 ** 5000, -4 * 10 ** 5000), (-3, 2))

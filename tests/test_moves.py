@@ -5,35 +5,12 @@ import unittest
 
 from glazehall.moves import moved
 from glazehall.shades import CLEAR, shade
-from helpers import FORTY
+from helpers import FORTY, plain_moved
 
 
 def picture(rows):
     """A dict of cells of a picture drawn by rows of signs; a dot is a cell with nothing in it."""
     return {(x, y): thing for y, row in enumerate(rows) for x, thing in enumerate(row) if thing != "."}
-
-
-def inside(cell, stretch):
-    x, y, wide, high = stretch
-    return x <= cell[0] <= x + wide - 1 and y <= cell[1] <= y + high - 1
-
-
-def plain_moved(cells, size, stretch, across, down):
-    """Cell by cell of the picture: what it has behind the move, asked of the cell that comes to it, if one does."""
-    whole = (0, 0) + size
-    found = {}
-    for y in range(size[1]):
-        for x in range(size[0]):
-            ahead = (x - across, y - down)
-            if inside(ahead, stretch) and inside(ahead, whole):
-                comes = ahead
-            elif inside((x, y), stretch):
-                continue
-            else:
-                comes = (x, y)
-            if comes in cells:
-                found[(x, y)] = cells[comes]
-    return found
 
 
 class MovesCase(unittest.TestCase):

@@ -24,7 +24,7 @@ class ReadmeTest(unittest.TestCase):
                 with self.subTest(row=row):
                     self.assertEqual(eval(asked, names), eval(wanted, names))
                     checked += 1
-        self.assertGreaterEqual(checked, 50)
+        self.assertGreaterEqual(checked, 80)
 
 
 if __name__ == "__main__":

@@ -7,36 +7,12 @@ from fractions import Fraction
 from glazehall.errors import NoTip
 from glazehall.shades import CLEAR, shade
 from glazehall.strokes import Tip, dabs, thicker, way
-from helpers import FORTY, TINY, check_refused, check_told, exact, pairs, sources
+from helpers import FORTY, TINY, check_refused, check_told, exact, pairs, plain_dabs, plain_way, sources
 
 CELLS = [(0, 0), (1, 1), (2, 1), (2, 0), (1, -1), (0, -1), (0, 0), (0, 0), (-1, 3), (7, 7), (8, 8)]
 ONE = [[16]]
 THREE = [[1, 2, 3], [4, 5, 6], [7, 8, 9]]
 FIVE = [[0, 1, 2, 3, 4], [5, 6, 7, 8, 9], [10, 11, 12, 13, 14], [15, 16, 0, 16, 15], [14, 13, 12, 11, 10]]
-
-
-def sign(number):
-    return (number > 0) - (number < 0)
-
-
-def plain_way(corners):
-    """By each step's number: so far across, and so far down, as the way to the next corner has."""
-    cells = [corners[0]]
-    for (x, y), (far, low) in zip(corners, corners[1:]):
-        across, down = far - x, low - y
-        for step in range(1, max(abs(across), abs(down)) + 1):
-            cells.append((x + sign(across) * min(step, abs(across)), y + sign(down) * min(step, abs(down))))
-    return cells
-
-
-def plain_dabs(cells, every, carry):
-    """Cell by cell, with a count that goes round."""
-    found = []
-    for cell in cells:
-        if carry == 0:
-            found.append(cell)
-        carry = 0 if carry == every - 1 else carry + 1
-    return (found, carry)
 
 
 class WayTest(unittest.TestCase):

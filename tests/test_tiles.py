@@ -19,6 +19,7 @@ def deeds(store):
     return (
         store.get, store.share, store.drop, store.count,
         lambda key: store.changed(key, 0, "z"), lambda key: store.changed(key, 0, "a"),
+        lambda key: store.thing(key, 0),
     )
 
 
@@ -180,6 +181,28 @@ class NewListsTest(unittest.TestCase):
             self.assertEqual(store.get(key), [[1]] + ROW[1:])
             store.get(key)[0].append(3)
             self.assertEqual(store.get(key), [[1]] + ROW[1:])
+
+
+class ThingTest(unittest.TestCase):
+    def test_each_place(self):
+        store = Store()
+        store.put(ROW)
+        store.put(ROW[::-1])
+        for place in range(16):
+            self.assertEqual((store.thing(1, place), store.thing(2, place)), (ROW[place], ROW[15 - place]))
+
+    def test_behind_a_change(self):
+        store = Store()
+        store.put(ROW)
+        store.share(1)
+        self.assertEqual(store.changed(1, 3, "z"), 2)
+        self.assertEqual((store.thing(1, 3), store.thing(2, 3), store.thing(2, 2)), ("d", "z", "c"))
+
+    def test_a_list_told_may_be_changed(self):
+        store = Store()
+        store.put([["a"]] * 16)
+        store.thing(1, 0).append("b")
+        self.assertEqual(store.thing(1, 0), ["a"])
 
 
 class CountTest(unittest.TestCase):
